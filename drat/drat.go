@@ -3,6 +3,7 @@ package drat
 
 import (
 	"strconv"
+	"strings"
 
 	"assay/api"
 )
@@ -23,4 +24,27 @@ func Read(text string) (int, [][]int, api.Errno) {
 }
 
 // Check checks a proof (P4).
-func Check(text string, proof string) (int, api.Errno) { return 0, api.OK }
+func Check(text string, proof string) (int, api.Errno) {
+	vars, clauses, err := Read(text)
+	if err != api.OK {
+		return 0, err
+	}
+	there := newStore(clauses)
+	lines := 0
+	for rest := proof; rest != ""; {
+		line, behind, ended := strings.Cut(rest, "\n")
+		lines++
+		next, ok := parseStep(line, strconv.Itoa(vars))
+		if !ended || !ok {
+			return lines, api.ErrProof
+		}
+		if !there.take(next) {
+			return lines, api.ErrStep
+		}
+		if next.ends() {
+			return lines, api.OK
+		}
+		rest = behind
+	}
+	return lines, api.ErrOpen
+}
