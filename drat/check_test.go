@@ -613,6 +613,29 @@ func TestP4CheckManyClauses(t *testing.T) {
 	})
 }
 
+// Clauses that come and go, so many that the store is made anew: it must not
+// matter in which order Go reads a list and calls what makes it longer.
+func TestP1CheckMakesItsStoreAnew(t *testing.T) {
+	const text = "p cnf 50 1\n1 2 0\n"
+	var added, deleted strings.Builder
+	many := 0
+	for i := 3; i <= 50; i++ {
+		for k := i + 1; k <= 50 && many < 202; k++ {
+			line := lineOf([]int{i, k})
+			added.WriteString(line)
+			deleted.WriteString("d " + line)
+			many++
+		}
+	}
+	proof := added.String() + deleted.String()
+	checkProof(t, text, proof, 404, api.ErrOpen)
+	checkProof(t, text, proof+proof, 808, api.ErrOpen)
+	checkProof(t, text, proof+"d 2 1 0\n", 405, api.ErrOpen)
+	checkProof(t, text, proof+"d 3 4 0\n", 405, api.ErrStep)
+	checkProof(t, text, proof+"-1 0\n", 405, api.ErrStep)
+	checkProof(t, text, proof+"d 2 1 0\n-1 0\n", 406, api.ErrOpen)
+}
+
 // P1: long proofs of every byte, alone and behind what a line begins with.
 func TestP1CheckEndsAtAllProofs(t *testing.T) {
 	inTime(t, func() {

@@ -101,7 +101,10 @@ func (s *store) tidy() {
 	fresh := store{index: make(map[literals]int), units: s.units}
 	for _, c := range s.clauses {
 		if c.times > 0 {
-			fresh.clauses[fresh.enter(c.set)].times = c.times
+			// On its own: the call makes the list longer, and Go leaves open
+			// which list a single statement would read.
+			at := fresh.enter(c.set)
+			fresh.clauses[at].times = c.times
 		}
 	}
 	*s = fresh
