@@ -1,9 +1,10 @@
-package assay
+// Package luby: Luby's sequence.
+package luby
 
 import "math/bits"
 
-// lubyNumber is number i of Luby's sequence, for an i of at least 1.
-func lubyNumber(i int) int {
+// Number is number i of Luby's sequence, for an i of at least 1.
+func Number(i int) int {
 	for {
 		half := 1 << (bits.Len(uint(i)) - 1)
 		if i == 2*half-1 {
